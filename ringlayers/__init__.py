@@ -1,0 +1,1 @@
+"""Ringlayers: rings and arcs laid over one another."""
