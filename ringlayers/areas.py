@@ -33,7 +33,7 @@ def unlike(one, other):
     for band, here, there in zip(bands, depth_rows(one, bands), depth_rows(other, bands)):
         turn = unlike_turn(here, there)
         if turn is not None:
-            return point_in_cell(band, turn)
+            return point_in_cell(band[0], turn)
     return None
 
 

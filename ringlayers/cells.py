@@ -19,7 +19,8 @@ def turns_of(piece):
 
 
 def edges_of(sheet):
-    fars = []
+    # With 0 the first band lies about the middle, also where no piece goes in as far.
+    fars = [0]
     for piece in sheet:
         fars.extend(span_of(piece))
     return sorted(set(fars))
@@ -64,6 +65,6 @@ def cell_area(band):
     return band[1] * band[1] - band[0] * band[0]
 
 
-def point_in_cell(band, turn):
+def point_in_cell(inner, turn):
     # Halves behind the whole edges: never the middle, never past the cell, and never to be made less.
-    return ((2 * band[0] + 1, 2), (2 * turn + 1, 2))
+    return ((2 * inner + 1, 2), (2 * turn + 1, 2))

@@ -30,6 +30,23 @@ def is_fraction(thing):
     return is_lowest(thing[0], thing[1])
 
 
+def lowest(upper, lower):
+    divisor = common_divisor(upper, lower)
+    return (upper // divisor, lower // divisor)
+
+
+def added(one, other):
+    return lowest(one[0] * other[1] + other[0] * one[1], one[1] * other[1])
+
+
+def opposite(fraction):
+    return (-fraction[0], fraction[1])
+
+
+def whole_part(fraction):
+    return fraction[0] // fraction[1]
+
+
 def lies_between(fraction, begin, end):
     # Begin and end are whole; begin itself lies between, end doesn't, as with the edges of a piece.
     lower = fraction[1]

@@ -1,7 +1,7 @@
 import itertools
-import random
 import unittest
 
+from counted import drawn_sheets
 from ringlayers.areas import area_of, covered_area, depth_areas, shared_area
 from ringlayers.pieces import layers
 
@@ -33,16 +33,6 @@ def counted_shared(sheet, numbers):
 def choices(sheet):
     for count in range(1, len(sheet) + 1):
         yield from itertools.combinations(range(len(sheet)), count)
-
-
-def drawn_sheets(seed, how_many, most_pieces, most_outer):
-    draw = random.Random(seed)
-    for _ in range(how_many):
-        pieces = []
-        for _ in range(draw.randint(0, most_pieces)):
-            outer = draw.randint(1, most_outer)
-            pieces.append((draw.randint(0, outer - 1), outer, draw.randint(0, 23), draw.randint(1, 24)))
-        yield tuple(pieces)
 
 
 class AreaOfTest(unittest.TestCase):

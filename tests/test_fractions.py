@@ -1,7 +1,10 @@
 import math
 import unittest
+from fractions import Fraction
 
-from ringlayers.fractions import common_divisor, is_fraction, is_whole, lies_between
+from ringlayers.fractions import (
+    added, common_divisor, is_fraction, is_whole, lies_between, lowest, opposite, whole_part,
+)
 
 
 class WholeTest(unittest.TestCase):
@@ -75,6 +78,27 @@ class BetweenTest(unittest.TestCase):
         for fraction in ((2, 1), (3, 2), (5, 2)):
             with self.subTest(fraction=fraction):
                 self.assertIs(lies_between(fraction, 2, 2), False)
+
+
+class ReckoningTest(unittest.TestCase):
+    def same(self, told, number):
+        self.assertTrue(is_fraction(told), told)
+        self.assertEqual(told, (number.numerator, number.denominator))
+
+    def test_lowest(self):
+        for upper in range(-30, 31):
+            for lower in range(1, 31):
+                self.same(lowest(upper, lower), Fraction(upper, lower))
+        self.assertEqual(lowest(0, 7), (0, 1))
+
+    def test_added_opposite_and_whole_part(self):
+        numbers = [Fraction(upper, lower) for upper in range(-9, 10) for lower in range(1, 7)]
+        for one in numbers:
+            here = (one.numerator, one.denominator)
+            self.same(opposite(here), -one)
+            self.assertEqual(whole_part(here), math.floor(one))
+            for other in numbers:
+                self.same(added(here, (other.numerator, other.denominator)), one + other)
 
 
 if __name__ == "__main__":

@@ -1,18 +1,10 @@
 import unittest
 from fractions import Fraction
 
+from counted import point_at
 from ringlayers.pieces import has, is_point, layers
 
 FINE = 10 ** 12
-
-
-def pair(number):
-    number = Fraction(number)
-    return (number.numerator, number.denominator)
-
-
-def point_at(far, turn):
-    return (pair(far), pair(turn))
 
 
 def beside(number):
